@@ -18,6 +18,15 @@ INTERFACE = {
         "all_looks": ["many"], "is_back": ["look"], "require_table": ["many", "value"],
         "require_waits": ["many", "value"],
     },
+    "joins": {"fits": ["one", "other"], "joined": ["one", "other"], "middle": ["one", "other", "look"]},
+    "walks": {
+        "first_hop_not": ["table", "nodes"], "is_ring": ["table", "nodes"], "looks_of": ["nodes"],
+        "walk_for": ["chain"], "ring_for": ["chain"],
+    },
+    "closures": {
+        "closure": ["table"], "levels": ["table"], "chain_to": ["table", "look"], "is_safe": ["table"],
+        "shortest_ring": ["table"], "walk_to": ["table", "look"],
+    },
 }
 
 # L8, without those that L27 and L7 take away again.
