@@ -2,7 +2,7 @@
 
 from nevergoback.growth import grown, next_looks
 from nevergoback.looks import is_back
-from nevergoback.placing import placed
+from nevergoback.placing import ends_too, placed
 from nevergoback.walks import ring_for
 
 
@@ -59,5 +59,4 @@ def walk_to(table, look):
     chain = chain_to(table, look)
     if chain is None:
         return None
-    hops = [(at, at + 1, hop) for at, hop in enumerate(chain)]
-    return placed(len(chain) + 1, hops + [(0, len(chain), look)])
+    return placed(len(chain) + 1, ends_too(chain, look))

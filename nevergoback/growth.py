@@ -11,6 +11,16 @@ def next_looks(table):
     return nexts
 
 
+def later_looks(table):
+    """The same for packets on the way: a node may go on before it hands on."""
+    nexts = {}
+    for look in table:
+        standing, order = start_of(look)
+        for earlier in range(standing + 1):
+            nexts.setdefault((earlier, order), []).append(look)
+    return nexts
+
+
 def _orders(kept, first, second):
     """The orders to which two orders join: worked out but once, for looks of all standings."""
     if (first, second) not in kept:
@@ -18,8 +28,12 @@ def _orders(kept, first, second):
     return kept[(first, second)]
 
 
-def _one_hop_more(steps, nexts, known, kept):
-    """The steps with one hop more than these to looks that are not known yet."""
+def one_hop_more(steps, nexts, known, kept):
+    """The steps with one hop more than these to looks that are not known yet; they are known from then on.
+
+    A step is a pair of a look and a chain to it; nexts tells the looks that may come behind a look, by its end; kept
+    are the orders to which two orders join, as far as they were worked out.
+    """
     found = []
     for look, chain in steps:
         for hop in nexts.get(end_of(look), []):
@@ -34,8 +48,8 @@ def _one_hop_more(steps, nexts, known, kept):
 def grown(firsts, nexts):
     """The least set with the first looks and, with each of its looks, all those to which it joins with a next one.
 
-    A step is a pair of a look and a chain to it. The first ones are steps, and have different looks. Yields a step for
-    each look of the set, the shorter chains first; nexts tells the looks that may come behind a look, by its end.
+    The first looks are told as steps, and are different ones. Yields a step for each look of the set, the shorter
+    chains first.
     """
     known = {step[0]: True for step in firsts}
     kept = {}
@@ -43,4 +57,4 @@ def grown(firsts, nexts):
     while steps:
         for step in steps:
             yield step
-        steps = _one_hop_more(steps, nexts, known, kept)
+        steps = one_hop_more(steps, nexts, known, kept)

@@ -26,7 +26,8 @@ def all_orders(many):
     rows = [()]
     for _ in range(size):
         rows = [row + (rank,) for row in rows for rank in range(size)]
-    return tuple([row for row in rows if is_order(row, size)])
+    # The ranks of an order are all from 0 to the greatest one.
+    return tuple([row for row in rows if len(set(row)) == max(row) + 1])
 
 
 def turned(order):

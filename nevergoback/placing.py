@@ -62,11 +62,20 @@ def _standings(count, ties):
     return standings
 
 
-def placed(count, ties):
-    """So many nodes with the looks of all ties between them, or None if there are none.
+def hops_along(chain):
+    """The ties of a walk that fits the chain."""
+    return [(at, at + 1, look) for at, look in enumerate(chain)]
 
-    Each node is in some tie, and all ties of a node tell the same standing of it. The numbers are small: each is at
-    most as great as there are numbers.
+
+def ends_too(chain, look):
+    """The ties of a walk that fits the chain, and that from its first node to the last one."""
+    return hops_along(chain) + [(0, len(chain), look)]
+
+
+def numbers_for(count, ties):
+    """The numbers, a tuple of them for each of so many nodes, by the orders of all ties, or None if there are none.
+
+    Each node is in some tie. The numbers are small: each is at most as great as there are numbers.
     """
     many = len(ties[0][2][2]) // 2
     rows = [_layers(many, tie) for tie in ties]
@@ -76,5 +85,12 @@ def placed(count, ties):
     if heights is None:
         return None
     numbers = [heights[head] for head in heads]
-    standings = _standings(count, ties)
-    return tuple([(standings[at],) + tuple(numbers[many * at:many * at + many]) for at in range(count)])
+    return [tuple(numbers[many * at:many * at + many]) for at in range(count)]
+
+
+def placed(count, ties):
+    """So many nodes with the looks of all ties, which tell one standing for each node, or None if there are none."""
+    numbers = numbers_for(count, ties)
+    if numbers is None:
+        return None
+    return tuple([(standing,) + told for standing, told in zip(_standings(count, ties), numbers)])

@@ -2,7 +2,7 @@
 
 from nevergoback.joins import fits
 from nevergoback.looks import look_between
-from nevergoback.placing import placed
+from nevergoback.placing import hops_along, placed
 
 MOST_NODES = 1000
 
@@ -35,7 +35,7 @@ def walk_for(chain):
     """A walk whose hops have these looks, or None if some two neighbours do not join."""
     if not _all_fit(chain):
         return None
-    return placed(len(chain) + 1, [(at, at + 1, look) for at, look in enumerate(chain)])
+    return placed(len(chain) + 1, hops_along(chain))
 
 
 def ring_for(chain):

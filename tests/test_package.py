@@ -27,6 +27,20 @@ INTERFACE = {
         "closure": ["table"], "levels": ["table"], "chain_to": ["table", "look"], "is_safe": ["table"],
         "shortest_ring": ["table"], "walk_to": ["table", "look"],
     },
+    "journeys": {
+        "journeys_set": ["table"], "is_journey": ["table", "value"], "comes_back": ["journey"], "is_once": ["table"],
+        "coming_back": ["table"],
+    },
+    "waits": {
+        "waits_table": ["waits"], "kept_table": ["table", "waits"], "is_calm": ["table", "waits"],
+        "is_cut": ["waits", "look"], "harm": ["table", "waits"],
+    },
+    "arrivals": {
+        "kinds": ["many"], "kind_of": ["look"], "leads_down": ["look", "place"],
+        "lacking": ["many", "table", "waits", "kind", "place"], "good_places": ["many", "table", "waits"],
+        "brings": ["many", "table", "waits"], "empty_handed": ["many", "table", "waits"], "links_around": ["nodes"],
+    },
+    "texts": {"format_table": ["table"], "parse_conditions": ["many", "text"]},
 }
 
 # L8, without those that L27 and L7 take away again.
