@@ -106,6 +106,29 @@ class Closure(unittest.TestCase):
         self.assertEqual(levels(table=DOWN), (1, 1, 1))
 
 
+class Alike(unittest.TestCase):
+    """What holds of a table holds of it turned, with its standings exchanged, and upside down."""
+
+    BENT = (
+        lambda look: (look[1], look[0], helper.flip(look[2])),
+        lambda look: (1 - look[0], 1 - look[1], look[2]),
+        lambda look: (look[0], look[1], tuple(max(look[2]) - rank for rank in look[2])),
+    )
+
+    def test_closures_and_rings(self):
+        for many in (1, 2):
+            for table in drawn_tables(94, 80, many, 5):
+                found = dict(zip(closure(table), levels(table)))
+                ring = shortest_ring(table)
+                for bent in self.BENT:
+                    other = tuple(sorted(map(bent, table)))
+                    self.assertEqual(dict(zip(closure(other), levels(other))),
+                                     {bent(look): level for look, level in found.items()})
+                    self.assertIs(is_safe(other), is_safe(table))
+                    other_ring = shortest_ring(other)
+                    self.assertEqual(other_ring and len(other_ring), ring and len(ring))
+
+
 class ChainAndWalk(unittest.TestCase):
     def check(self, table, look, level):
         chain, nodes = chain_to(table, look), walk_to(table, look)

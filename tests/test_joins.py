@@ -92,6 +92,18 @@ class Joined(unittest.TestCase):
                                      ((0, 0), (1, 0), (1, 0)), ((0, 0), (0, 0), (0, 0))):
             self.assertEqual(joined((1, 0, first), (0, 1, second)), ((1, 1, order),))
 
+    def test_turned_exchanged_and_upside_down_alike(self):
+        def turned(look):
+            return (look[1], look[0], helper.flip(look[2]))
+
+        def upside_down(look):
+            return (1 - look[0], 1 - look[1], tuple(max(look[2]) - rank for rank in look[2]))
+
+        for one, other in list(pairs_that_fit())[::5]:
+            looks = joined(one, other)
+            self.assertEqual(joined(turned(other), turned(one)), tuple(sorted(map(turned, looks))))
+            self.assertEqual(joined(upside_down(one), upside_down(other)), tuple(sorted(map(upside_down, looks))))
+
     def test_by_names(self):
         self.assertEqual(joined(other=(1, 0, (1, 0)), one=(0, 1, (0, 0))), ((0, 0, (1, 0)),))
 
