@@ -19,10 +19,10 @@ def fits(one, other):
     return end_of(one) == start_of(other)
 
 
-def _seats(ranks, middle):
+def _seats(ranks, inner):
     """Where each of the different ranks, ascending, is among those of the middle node: odd on one, even beside them."""
-    steps = sorted(set(middle))
-    return [2 * len([step for step in steps if step < rank]) + (1 if rank in middle else 0)
+    steps = sorted(set(inner))
+    return [2 * len([step for step in steps if step < rank]) + (1 if rank in inner else 0)
             for rank in sorted(set(ranks))]
 
 
