@@ -21,7 +21,7 @@ def later_looks(table):
     return nexts
 
 
-def _orders(kept, first, second):
+def orders_of(kept, first, second):
     """The orders to which two orders join: worked out but once, for looks of all standings."""
     if (first, second) not in kept:
         kept[(first, second)] = joined_orders(first, second)
@@ -37,7 +37,7 @@ def one_hop_more(steps, nexts, known, kept):
     found = []
     for look, chain in steps:
         for hop in nexts.get(end_of(look), []):
-            for order in _orders(kept, look[2], hop[2]):
+            for order in orders_of(kept, look[2], hop[2]):
                 new = (look[0], hop[1], order)
                 if new not in known:
                     known[new] = True
@@ -45,14 +45,13 @@ def one_hop_more(steps, nexts, known, kept):
     return found
 
 
-def grown(firsts, nexts):
+def grown(firsts, nexts, kept):
     """The least set with the first looks and, with each of its looks, all those to which it joins with a next one.
 
-    The first looks are told as steps, and are different ones. Yields a step for each look of the set, the shorter
-    chains first.
+    The first looks are told as steps, and are different ones; kept is as for one hop more. Yields a step for each look
+    of the set, the shorter chains first.
     """
     known = {step[0]: True for step in firsts}
-    kept = {}
     steps = firsts
     while steps:
         for step in steps:

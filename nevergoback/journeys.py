@@ -52,7 +52,8 @@ def journeys_set(table):
     """The set of all looks from the first node of a journey, as it is left, to the last one."""
     firsts = _first_steps(table)
     nexts = later_looks(table)
-    return tuple(sorted([look for look, chain in grown(firsts, nexts)]))
+    kept = {}
+    return tuple(sorted([look for look, chain in grown(firsts, nexts, kept)]))
 
 
 def _visits(chain, look):
@@ -67,7 +68,8 @@ def coming_back(table):
     """A journey of fewest visits that comes back, or None."""
     firsts = _first_steps(table)
     nexts = later_looks(table)
-    for look, chain in grown(firsts, nexts):
+    kept = {}
+    for look, chain in grown(firsts, nexts, kept):
         if is_return(look):
             return _visits(chain, look)
     return None

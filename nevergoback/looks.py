@@ -48,11 +48,31 @@ def _first_wrong(parts, sound):
     return None
 
 
+def _first_no_look(many, value):
+    """The index of the first part of a tuple that is no look, or not above the part ahead, or None."""
+    return _first_wrong(value, [is_look(many, part) for part in value])
+
+
+def _first_no_order(many, value):
+    """The same for orders of two nodes."""
+    return _first_wrong(value, [is_order(part, 2 * many) for part in value])
+
+
+def is_table(many, value):
+    """Whether any value is a table of looks between nodes with so many numbers."""
+    return isinstance(value, tuple) and _first_no_look(many, value) is None
+
+
+def is_waits(many, value):
+    """Whether any value is a set of orders of two nodes with so many numbers."""
+    return isinstance(value, tuple) and _first_no_order(many, value) is None
+
+
 def require_table(many, value):
     """Any value, if it is a table of looks between nodes with so many numbers."""
     if not isinstance(value, tuple):
         raise InvalidTable(None)
-    wrong = _first_wrong(value, [is_look(many, part) for part in value])
+    wrong = _first_no_look(many, value)
     if wrong is not None:
         raise InvalidTable(wrong)
     return value
@@ -62,7 +82,7 @@ def require_waits(many, value):
     """Any value, if it is a set of orders of two nodes with so many numbers."""
     if not isinstance(value, tuple):
         raise InvalidWaits(None)
-    wrong = _first_wrong(value, [is_order(part, 2 * many) for part in value])
+    wrong = _first_no_order(many, value)
     if wrong is not None:
         raise InvalidWaits(wrong)
     return value

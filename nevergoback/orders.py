@@ -1,5 +1,8 @@
 """Stage 1: the order of a tuple of numbers is the tuple of their ranks."""
 
+# The greatest number of a node or visit on paper, and the greatest length of a link.
+GREATEST = 10 ** 40
+
 
 def is_number(value):
     """Whether any value is an integer: an int that is not a bool."""

@@ -89,6 +89,37 @@ def levels_of(table):
         levels.update({some: level for some in new})
 
 
+@functools.lru_cache(maxsize=5000)
+def closed(table):
+    """The closure, as a frozen set."""
+    return frozenset(levels_of(table))
+
+
+def safe(table):
+    """Whether a table, in any order, has no ring."""
+    return not any(back(some) for some in closed(tuple(sorted(table))))
+
+
+def waiting(waits):
+    """The looks of nodes that wait."""
+    return tuple((0, 0, order) for order in waits)
+
+
+def uncut(table, waits):
+    """The looks of a table that are not cut."""
+    return tuple(some for some in table if not cut(waits, some))
+
+
+def calm(table, waits):
+    """Whether a plan is calm."""
+    return safe(waiting(waits)) and safe(uncut(table, waits))
+
+
+def subsets(some):
+    """All subsets of a tuple, as ascending tuples of its parts."""
+    return [part for size in range(len(some) + 1) for part in itertools.combinations(some, size)]
+
+
 def is_plain(value):
     """Whether a value is built of plain tuples and integers that are no booleans."""
     if type(value) is tuple:
@@ -126,6 +157,14 @@ def drawn_table(draw, many, most):
             some = draw.choice(rows)
         table.add(some)
     return tuple(sorted(table))
+
+
+def drawn_waits(draw, many, most):
+    """Drawn waits of up to so many orders, most of which are for a neighbour that is nearer at some place."""
+    rows = orders(many)
+    place = draw.randrange(many)
+    down = [order for order in rows if order[many + place] < order[place]]
+    return tuple(sorted({draw.choice(rows if draw.random() < 0.1 else down) for _ in range(draw.randint(0, most))}))
 
 
 def drawn_crowd(draw, many, size):

@@ -2,6 +2,7 @@
 
 import ast
 import builtins
+import doctest
 import importlib
 import inspect
 import pathlib
@@ -41,6 +42,14 @@ INTERFACE = {
         "brings": ["many", "table", "waits"], "empty_handed": ["many", "table", "waits"], "links_around": ["nodes"],
     },
     "texts": {"format_table": ["table"], "parse_conditions": ["many", "text"]},
+    "trials": {
+        "first_waits": ["many", "table", "may", "tries"], "tree_of": ["many", "table", "may", "tries"],
+    },
+    "full": {"is_full": ["many", "table"], "filled": ["many", "table"], "room": ["many", "table"]},
+    "mends": {
+        "require_options": ["many", "value"], "choices": ["options"],
+        "with_choice": ["table", "waits", "options", "choice"], "cheapest_mend": ["table", "waits", "options"],
+    },
 }
 
 # L8, without those that L27 and L7 take away again.
@@ -70,6 +79,13 @@ class Interface(unittest.TestCase):
                     self.assertEqual(list(inspect.signature(function).parameters), parameters)
                     self.assertEqual(function.__module__, "nevergoback." + module)
                     self.assertEqual(function.__name__, name)
+
+
+class Readme(unittest.TestCase):
+    def test_its_examples(self):
+        found = doctest.testfile(str(PACKAGE.parent / "README.md"), module_relative=False)
+        self.assertEqual(found.failed, 0)
+        self.assertGreater(found.attempted, 20)
 
 
 class Language(unittest.TestCase):

@@ -13,17 +13,9 @@ OWN = parse_conditions(2, "old old: v1 < u1\nold new: v1 < u1\nnew old: v2 < u2\
 NEARER = tuple(look[2] for look in parse_conditions(2, "old old: v2 < u2\n"))
 
 
-def drawn_waits(draw, many, most):
-    """Drawn waits of up to so many orders, most of which are for a neighbour that is nearer at some place."""
-    rows = helper.orders(many)
-    place = draw.randrange(many)
-    down = [order for order in rows if order[many + place] < order[place]]
-    return tuple(sorted({draw.choice(rows if draw.random() < 0.1 else down) for _ in range(draw.randint(0, most))}))
-
-
 def drawn_plans(seed, count, many, looks, orders):
     draw = random.Random(seed)
-    return [(helper.drawn_table(draw, many, looks), drawn_waits(draw, many, orders)) for _ in range(count)]
+    return [(helper.drawn_table(draw, many, looks), helper.drawn_waits(draw, many, orders)) for _ in range(count)]
 
 
 class WaitsTable(unittest.TestCase):
@@ -35,7 +27,7 @@ class WaitsTable(unittest.TestCase):
         draw = random.Random(111)
         for many in (1, 2):
             for _ in range(50):
-                waits = drawn_waits(draw, many, 8)
+                waits = helper.drawn_waits(draw, many, 8)
                 table = waits_table(waits)
                 self.assertEqual(table, tuple((0, 0, order) for order in waits))
                 self.assertTrue(helper.is_plain(table))
@@ -68,7 +60,7 @@ class IsCut(unittest.TestCase):
     def test_drawn_waits(self):
         draw = random.Random(112)
         for _ in range(60):
-            waits = drawn_waits(draw, 2, 8)
+            waits = helper.drawn_waits(draw, 2, 8)
             for look in helper.looks(2):
                 self.assertIs(is_cut(waits, look), helper.cut(waits, look))
 
