@@ -39,8 +39,9 @@ def chains_back(many, table):
     kept = {}
     steps = steps_of(table, kept)
     known = {step[0]: True for step in steps}
+    lacked = [look for look in all_looks(many) if look not in told]
     found = []
-    for look in [look for look in all_looks(many) if look not in told]:
+    for look in lacked:
         chain = None
         # What is in the closure anyway makes no ring.
         if look not in known:

@@ -63,7 +63,8 @@ class RequireOptions(unittest.TestCase):
 
     def test_what_is_no_tuple_of_1_to_4(self):
         sound = sound_options(1)
-        for value in ((), sound + sound[:1], list(sound), None, "wait", 0, True, {}, {"wait": sound}, [sound], sound * 2,
+        for value in ((), sound + sound[:1], list(sound), None, "wait", 0, True, {}, {"wait": sound}, [sound],
+                      sound * 2,
                       (None,) * 5):
             self.assertIsNone(self.refused(1, value))
 

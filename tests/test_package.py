@@ -6,8 +6,12 @@ import doctest
 import importlib
 import inspect
 import pathlib
+import re
+import tokenize
 import unittest
 import warnings
+
+from nevergoback import errors
 
 PACKAGE = pathlib.Path(__file__).resolve().parent.parent / "nevergoback"
 
@@ -50,7 +54,22 @@ INTERFACE = {
         "require_options": ["many", "value"], "choices": ["options"],
         "with_choice": ["table", "waits", "options", "choice"], "cheapest_mend": ["table", "waits", "options"],
     },
+    "claims": {"require_claim": ["claim"], "decide": ["claim", "tries"]},
+    "checker": {"first_fault": ["certificate"]},
+    "replays": {
+        "links_for": ["nodes"], "deeds_for": ["waits", "nodes"], "replayed": ["many", "table", "waits", "nodes"],
+    },
 }
+# Each method of the class Net, and its parameters behind the object itself.
+METHODS = {
+    "__init__": ["many", "table", "waits", "links"], "names": [], "numbers": ["name"], "standing": ["name"],
+    "node": ["name"], "neighbours": ["name"], "waited_for": ["name"], "ways_on": ["name"], "go": ["name"],
+    "put": ["packet", "name"], "hop": ["packet", "name"], "path": ["packet"], "is_still": [], "left_empty": [],
+    "ring": [], "mixture": [], "deeds": [], "twin": [], "undo": [], "__len__": [], "__eq__": ["other"],
+    "__iadd__": ["other"],
+}
+# By their names alone: those behind them are passed by position or by name.
+BY_NAME = {("trials", "first_waits"): "tries", ("trials", "tree_of"): "tries", ("claims", "decide"): "tries"}
 
 # L8, without those that L27 and L7 take away again.
 BUILTINS = set(
@@ -59,6 +78,23 @@ BUILTINS = set(
     "IndexError LookupError ZeroDivisionError ArithmeticError OverflowError RuntimeError NotImplementedError "
     "StopIteration NotImplemented".split())
 LIBRARY = {"heapq", "math", "itertools", "collections"}
+# L25, the first list and the additional methods.
+METHODS_OF_VALUES = set(
+    "append clear copy count endswith extend find get index insert isalnum isalpha isdigit islower isspace isupper "
+    "items join keys ljust lower lstrip partition pop remove replace reverse rfind rjust rpartition rsplit rstrip "
+    "setdefault split splitlines startswith strip update upper values zfill bit_length "
+    "title capitalize swapcase casefold center expandtabs removeprefix removesuffix rindex isascii isdecimal "
+    "isnumeric istitle isidentifier isprintable add discard".split())
+# L17.
+NEVER = {"mro", "elements", "open", "input", "law", "version_info", "with_traceback", "add_note", "register"}
+NOT_NAMES = NEVER | set(
+    "attrgetter breakpoint builtins compile copyright credits delattr dir eval exec exit gc getattr globals hasattr "
+    "help id importlib license locals methodcaller os quit setattr super type vars sys".split())
+NOT_IN_FILES = set(
+    "type typing typing_extensions enum Enum IntEnum StrEnum Flag IntFlag Generic Protocol ABC ABCMeta namedtuple "
+    "NamedTuple TypedDict TYPE_CHECKING abstractmethod dataclass overload contextmanager".split())
+OWN_ERRORS = {name for name in vars(errors) if isinstance(vars(errors)[name], type)}
+DOUBLE = {"__init__", "__eq__", "__len__", "__iadd__"}
 
 
 def files():
@@ -79,6 +115,16 @@ class Interface(unittest.TestCase):
                     self.assertEqual(list(inspect.signature(function).parameters), parameters)
                     self.assertEqual(function.__module__, "nevergoback." + module)
                     self.assertEqual(function.__name__, name)
+                    alone = [key for key, told in inspect.signature(function).parameters.items()
+                             if told.kind is inspect.Parameter.KEYWORD_ONLY]
+                    self.assertEqual(alone, [BY_NAME[(module, name)]] if (module, name) in BY_NAME else [])
+
+    def test_methods_stand_in_the_class_itself(self):
+        from nevergoback.nets import Net
+        self.assertEqual(Net.__module__, "nevergoback.nets")
+        for name, parameters in METHODS.items():
+            self.assertIn(name, vars(Net))
+            self.assertEqual(list(inspect.signature(vars(Net)[name]).parameters), ["self"] + parameters)
 
 
 class Readme(unittest.TestCase):
@@ -135,6 +181,104 @@ class Language(unittest.TestCase):
                 self.assertNotIsInstance(node, (ast.Div, ast.Global, ast.AsyncFunctionDef, ast.Await), name)
                 if isinstance(node, ast.Constant):
                     self.assertNotIsInstance(node.value, (float, complex), name)
+
+    def test_imported_names_stand_in_the_file_that_defines_them(self):
+        defined = {}
+        for name, tree in trees():
+            defined[name] = {node.name for node in tree.body if isinstance(node, (ast.FunctionDef, ast.ClassDef))}
+            defined[name] |= {node.targets[0].id for node in tree.body if isinstance(node, ast.Assign)}
+        for name, tree in trees():
+            for node in tree.body:
+                if isinstance(node, ast.ImportFrom) and node.module not in LIBRARY:
+                    for alias in node.names:
+                        self.assertIn(alias.name, defined[node.module.split(".")[1] + ".py"], (name, alias.name))
+                        self.assertIsNone(alias.asname)
+
+    def test_no_two_files_import_from_each_other(self):
+        imports = {name[:-3]: {node.module.split(".")[1] for node in tree.body if isinstance(node, ast.ImportFrom)
+                               and node.module not in LIBRARY} for name, tree in trees()}
+        left = dict(imports)
+        while left:
+            ends = [name for name in left if not left[name] & set(left)]
+            self.assertTrue(ends, left)
+            for name in ends:
+                del left[name]
+
+    def test_methods_of_values_and_own_ones(self):
+        own = {node.name for _, tree in trees() for part in tree.body if isinstance(part, ast.ClassDef)
+               for node in part.body if isinstance(node, ast.FunctionDef)}
+        for name, tree in trees():
+            for node in ast.walk(tree):
+                if isinstance(node, ast.Call) and isinstance(node.func, ast.Attribute):
+                    self.assertIn(node.func.attr, METHODS_OF_VALUES | own, (name, node.lineno))
+        self.assertFalse(own & METHODS_OF_VALUES)
+        attributes = {node.attr for _, tree in trees() for node in ast.walk(tree)
+                      if isinstance(node, ast.Attribute) and isinstance(node.ctx, ast.Store)}
+        self.assertFalse(own & attributes)
+
+    def test_names(self):
+        for name, tree in trees():
+            fixed = {alias.name for node in tree.body if isinstance(node, ast.ImportFrom) for alias in node.names}
+            fixed |= {node.name for node in tree.body if isinstance(node, ast.ClassDef)}
+            bound = [alias for node in tree.body if isinstance(node, ast.ImportFrom) for alias in node.names]
+            bound = [alias.name for alias in bound] + [
+                node.targets[0].id if isinstance(node, ast.Assign) else node.name for node in tree.body
+                if isinstance(node, (ast.Assign, ast.FunctionDef, ast.ClassDef))]
+            self.assertEqual(len(bound), len(set(bound)), name)
+            for node in ast.walk(tree):
+                if isinstance(node, ast.arg):
+                    told = node.arg
+                elif isinstance(node, ast.Name) and isinstance(node.ctx, ast.Store):
+                    told = node.id
+                elif isinstance(node, (ast.FunctionDef, ast.ClassDef)):
+                    self.assertNotIn(node.name, NOT_NAMES)
+                    self.assertTrue(not node.name.startswith("__") or node.name in DOUBLE, node.name)
+                    continue
+                elif isinstance(node, ast.Attribute):
+                    self.assertNotIn(node.attr, NEVER)
+                    continue
+                else:
+                    continue
+                self.assertNotIn(told, fixed | NOT_NAMES | set(dir(builtins)), (name, node.lineno))
+                self.assertFalse(told.startswith("__"))
+
+    def test_words_that_do_not_occur(self):
+        for path in files():
+            with open(path, "rb") as file:
+                tokens = [token for token in tokenize.tokenize(file.readline)
+                          if token.type in (tokenize.NAME, tokenize.STRING) and not token.string.startswith('"""')]
+            for token in tokens:
+                words = set(re.findall("[A-Za-z_0-9]+", token.string))
+                self.assertFalse(words & NOT_IN_FILES, (path, token.start))
+                if token.type == tokenize.STRING:
+                    self.assertNotIn("%", token.string)
+
+    def test_plain_statements_and_expressions(self):
+        """The package does without much that LANGUAGE.md allows under conditions."""
+        for name, tree in trees():
+            for node in ast.walk(tree):
+                self.assertNotIsInstance(node, (
+                    ast.AugAssign, ast.GeneratorExp, ast.Lambda, ast.Nonlocal, ast.With, ast.Match, ast.NamedExpr,
+                    ast.Starred, ast.Set, ast.AnnAssign, ast.Assert), (name, getattr(node, "lineno", None)))
+                if isinstance(node, (ast.FunctionDef, ast.ClassDef)):
+                    self.assertEqual(node.decorator_list, [])
+                if isinstance(node, ast.Try):
+                    self.assertFalse(node.finalbody or node.orelse)
+                    for handler in node.handlers:
+                        self.assertIn(handler.type.id, OWN_ERRORS)
+                if isinstance(node, ast.Raise):
+                    self.assertIn(node.exc.func.id, OWN_ERRORS)
+
+    def test_generators_are_iterated_at_once(self):
+        generators = {node.name for _, tree in trees() for node in ast.walk(tree) if isinstance(node, ast.FunctionDef)
+                      and any(isinstance(part, (ast.Yield, ast.YieldFrom)) for part in ast.walk(node))}
+        self.assertEqual(generators, {"choices", "grown"})
+        for name, tree in trees():
+            at_once = {id(node.iter) for node in ast.walk(tree) if isinstance(node, (ast.For, ast.comprehension))}
+            for node in ast.walk(tree):
+                if isinstance(node, ast.Call) and isinstance(node.func, ast.Name) and node.func.id in generators:
+                    self.assertIn(id(node), at_once, (name, node.lineno))
+                    self.assertTrue(all(isinstance(part, (ast.Name, ast.Constant)) for part in node.args))
 
     def test_module_level(self):
         for name, tree in trees():
